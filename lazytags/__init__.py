@@ -1,0 +1,1 @@
+"""Lazytags: rows in trees, deeds on ranges, and the least that must be kept."""
