@@ -58,7 +58,7 @@ def least_rows(setting):
     origins, _ = grown(setting)
     rows = [()]
     for before, value in origins[1:]:
-        rows.append((*rows[before], value))
+        rows.append(rows[before] + (value,))
     return rows
 
 
