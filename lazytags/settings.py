@@ -24,6 +24,11 @@ class Setting:
         """The number of the values."""
         return self._size
 
+    # An error has a field of this name, which it assigns: so there has to be a setter here, too.
+    @size.setter
+    def size(self, value):
+        raise AttributeError("a setting never changes")
+
     @property
     def maps(self):
         """A new dict from the names to the maps."""
@@ -38,6 +43,11 @@ class Setting:
     def turning(self):
         """Whether rows may be turned round."""
         return self._turning
+
+    # As with size: an error has a field of this name.
+    @turning.setter
+    def turning(self, value):
+        raise AttributeError("a setting never changes")
 
     @property
     def deeds(self):

@@ -52,6 +52,15 @@ class TestErrors(unittest.TestCase):
                 self.assertIs(type(getattr(kind(thing), field)), type(thing))
             self.assertTrue(hasattr(kind(), field), name)
 
+    def test_fields_that_a_setting_has_as_properties(self):
+        for kind, field in [(errors.InvalidSize, "size"), (errors.InvalidTurning, "turning")]:
+            for thing in [0, 5, True, None, "2", [1], Setting(2, turning=True)]:
+                for error in [kind(thing), kind(**{field: thing})]:
+                    self.assertEqual(getattr(error, field), thing)
+                    setattr(error, field, 7)
+                    self.assertEqual(getattr(error, field), 7)
+            self.assertTrue(hasattr(kind(), field))
+
     def test_no_other_fields(self):
         for name, field in FIELDS.items():
             self.assertEqual(list(vars(getattr(errors, name)(3))), [field])

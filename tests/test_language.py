@@ -10,7 +10,8 @@ PACKAGE = pathlib.Path(__file__).resolve().parent.parent / "lazytags"
 FILES = sorted(PACKAGE.rglob("*.py"))
 
 BUILTINS = """len range enumerate zip min max sum abs sorted reversed int str bool list tuple dict set isinstance ord repr
-any all divmod property ValueError TypeError KeyError IndexError LookupError ZeroDivisionError""".split()
+any all divmod property ValueError TypeError KeyError IndexError LookupError ZeroDivisionError
+AttributeError""".split()
 METHODS = """append clear copy count endswith extend find get index insert isalnum isalpha isdigit islower isspace isupper
 items join keys ljust lower lstrip partition pop remove replace reverse rfind rjust rpartition rsplit rstrip setdefault
 split splitlines startswith strip update upper values zfill bit_length add discard""".split()
@@ -175,9 +176,23 @@ class TestWords(unittest.TestCase):
         for path in FILES:
             for node in nodes_of(path, ast.FunctionDef, ast.ClassDef):
                 for decorator in node.decorator_list:
-                    self.assertEqual(ast.unparse(decorator), "property", path)
+                    self.assertIn(ast.unparse(decorator), ["property", f"{node.name}.setter"], path)
             for node in nodes_of(path, ast.Attribute):
                 self.assertFalse(node.attr.startswith("__"), (path, node.lineno))
+
+    def test_a_property_that_is_assigned_has_its_setter_in_each_class(self):
+        # The rule goes by the name, whichever object stands before it.
+        assigned = [
+            node.attr for path in FILES for node in nodes_of(path, ast.Attribute) if not isinstance(node.ctx, ast.Load)
+        ]
+        self.assertIn("size", assigned)
+        self.assertIn("turning", assigned)
+        for path in FILES:
+            for each in nodes_of(path, ast.ClassDef):
+                methods = [node for node in each.body if isinstance(node, ast.FunctionDef)]
+                written = [(node.name, ast.unparse(sign)) for node in methods for sign in node.decorator_list]
+                for name in [name for name, sign in written if sign == "property" and name in assigned]:
+                    self.assertIn((name, f"{name}.setter"), written, (path, each.name))
 
     def test_no_sort_beside_an_order(self):
         for path in FILES:

@@ -153,9 +153,39 @@ class TestNeverChanges(unittest.TestCase):
     def test_properties_are_only_read(self):
         setting = full()
         for name in ["size", "maps", "asks", "turning", "deeds"]:
+            for worth in [getattr(setting, name), 1, False, None, {}, "turn"]:
+                with self.assertRaises(AttributeError):
+                    setattr(setting, name, worth)
             with self.assertRaises(AttributeError):
-                setattr(setting, name, 1)
+                delattr(setting, name)
         self.assertTrue(setting == full())
+        self.assertEqual((setting.size, setting.deeds), (2, ("flip", "turn", "zero")))
+        self.assertIs(setting.turning, True)
+        self.assertEqual(setting.after(["turn"], (0, 1)), (1, 0))
+
+    def test_size_and_turning_are_only_read_beside_the_errors_that_assign_them(self):
+        for size in [3, 0, True, None, "2", [2]]:
+            setting = full()
+            with self.assertRaises(AttributeError):
+                setting.size = size
+            with self.assertRaises(AttributeError):
+                setting.size += 1
+            self.assertTrue(setting == full())
+            self.assertEqual((setting.size, setting.without_deed("zero").size), (2, 2))
+        for turning in [False, True, 0, None, "turn"]:
+            for before in [False, True]:
+                setting = Setting(2, {"flip": (1, 0)}, {"odd": ODD}, before)
+                with self.assertRaises(AttributeError):
+                    setting.turning = turning
+                self.assertIs(setting.turning, before)
+                self.assertTrue(setting == Setting(2, {"flip": (1, 0)}, {"odd": ODD}, before))
+                self.assertEqual(setting.deeds, ("flip", "turn") if before else ("flip",))
+        with self.assertRaises(InvalidSize) as caught:
+            Setting(size=9)
+        self.assertEqual(caught.exception.size, 9)
+        with self.assertRaises(InvalidTurning) as caught:
+            Setting(2, turning=1)
+        self.assertIs(caught.exception.turning, 1)
 
     def test_calls_change_nothing(self):
         setting = full()
