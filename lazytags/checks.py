@@ -16,9 +16,14 @@ def is_row(thing, size):
     return isinstance(thing, tuple) and all([is_integer(value, 0, size - 1) for value in thing])
 
 
+def is_line(thing, many, bound):
+    """Whether thing is a tuple of just so many integers from 0 to bound - 1."""
+    return is_row(thing, bound) and len(thing) == many
+
+
 def is_map(thing, size):
     """Whether thing is a map of the values below size."""
-    return is_row(thing, size) and len(thing) == size
+    return is_line(thing, size, size)
 
 
 def is_name(thing):

@@ -1,27 +1,38 @@
 """The classes of rows that are the same, found by making rows longer one value at a time."""
 
-from lazytags.exploring import explored
+from lazytags.errors import TooMany
+from lazytags.exploring import explored, explored_some, ways_of
 from lazytags.machines import mapped_steps, shrunk
 
 MOST_RECORDS = 300
 
 
-def joined_maps(setting):
-    """The list of the maps that the maps of some deeds, perhaps of none, come to, one after the other."""
+def map_words(setting):
+    """A dict with each map that the maps of some deeds come to, one after the other, and the least such deeds."""
+    names = list(setting.maps)
     maps = list(setting.maps.values())
-    none = tuple(range(setting.size))
-    found, _, _ = explored(none, len(maps), lambda past, k: tuple([maps[k][value] for value in past]))
-    return found
+    found, origins, _ = explored(no_map(setting), len(maps), lambda past, k: joined(past, maps[k]))
+    return {mapping: word for mapping, word in zip(found, ways_of(origins, names))}
+
+
+def no_map(setting):
+    """The map that replaces each value by itself."""
+    return tuple(range(setting.size))
+
+
+def joined(first, second):
+    """The map that the second map comes to after the first one."""
+    return tuple([second[value] for value in first])
 
 
 def views(setting):
-    """The steps of the least machine of each ask, reading what each of the joined maps leaves of the row.
+    """The steps of the least machine of each ask, reading what the maps of any deeds leave of the row.
 
     Equal steps stand in the list only once.
     """
     machines = [shrunk(machine) for machine in setting.asks.values()]
     found = {}
-    for mapping in joined_maps(setting):
+    for mapping in map_words(setting):
         for _, steps, _ in machines:
             found[mapped_steps(steps, mapping)] = True
     return list(found)
@@ -41,11 +52,19 @@ def value_leads(setting):
     return leads
 
 
-def grown(setting):
+def grown(setting, most=MOST_RECORDS):
     """The records of the least table: where each comes from, and where each value at its end leads.
 
-    Returns the last two lists of explored. Raises TooMany if there are too many records.
+    Returns the last two lists of explored. Raises TooMany if there are more than most records.
     """
+    origins, nexts = grown_some(setting, most)
+    if len(origins) > most:
+        raise TooMany()
+    return origins, nexts
+
+
+def grown_some(setting, most):
+    """What grown returns, but if there are more than most records it stops at one more than that."""
     leads = value_leads(setting)
     states = tuple(range(len(leads[0])))
     turning = setting.turning
@@ -61,5 +80,5 @@ def grown(setting):
             tuple([back[state] for state in lead]) if turning else (),
         )
 
-    _, origins, nexts = explored((states, states if turning else ()), setting.size, longer, MOST_RECORDS)
+    _, origins, nexts = explored_some((states, states if turning else ()), setting.size, longer, most)
     return origins, nexts

@@ -1,6 +1,6 @@
 """Machines: their answers, the least ones, and machines made of others."""
 
-from lazytags.checks import is_integer, is_row, is_size
+from lazytags.checks import is_integer, is_line, is_row, is_size
 from lazytags.errors import InvalidMachine, InvalidMap, InvalidRow, InvalidSize
 from lazytags.exploring import explored, way_to
 
@@ -15,7 +15,7 @@ def check_machine(thing, size):
         return ("form",)
     start, steps, answers = thing
     for state, line in enumerate(steps):
-        if not is_row(line, len(steps)) or len(line) != size:
+        if not is_line(line, size, len(steps)):
             return ("steps", state)
     if len(answers) != len(steps) or not all([is_integer(told, 0, 99) for told in answers]):
         return ("answers",)
@@ -48,10 +48,15 @@ def answer(machine, row):
 
 def answer_on(machine, row):
     """The answer of what surely is a machine on what surely is a row of its size."""
-    state, steps, answers = machine
+    start, steps, answers = machine
+    return answers[state_after(steps, start, row)]
+
+
+def state_after(steps, state, row):
+    """The state to which a row leads from a state."""
     for value in row:
         state = steps[state][value]
-    return answers[state]
+    return state
 
 
 def least_machine(machine):

@@ -1,13 +1,24 @@
 """The least table of a setting, and what can be told from it."""
 
-from lazytags.growing import grown, value_leads
+from lazytags.exploring import ways_of
+from lazytags.growing import MOST_RECORDS, grown, value_leads
 from lazytags.settings import need_row, need_setting
 
 
 def least_records(setting):
     """The least table."""
     need_setting(setting)
-    origins, nexts = grown(setting)
+    return least_table(setting, MOST_RECORDS)
+
+
+def least_table(setting, most):
+    """The least table. Raises TooMany if it has more than most records."""
+    origins, nexts = grown(setting, most)
+    return table_of(setting, origins, nexts)
+
+
+def table_of(setting, origins, nexts):
+    """The least table, given where its records come from and where they lead."""
     joins = joins_of(origins, nexts)
     moves = {name: map_moves(origins, nexts, mapping) for name, mapping in setting.maps.items()}
     if setting.turning:
@@ -56,10 +67,12 @@ def least_rows(setting):
     """The list of the least rows of the records of the least table."""
     need_setting(setting)
     origins, _ = grown(setting)
-    rows = [()]
-    for before, value in origins[1:]:
-        rows.append(rows[before] + (value,))
-    return rows
+    return rows_of(setting, origins)
+
+
+def rows_of(setting, origins):
+    """The list of the least rows, given where their records come from."""
+    return ways_of(origins, list(range(setting.size)))
 
 
 def record_of(setting, row):

@@ -50,6 +50,95 @@ raises InvalidMaps(name='flip')
 >>> from lazytags.settings import Setting
 >>> same_values(Setting(3, None, {"two": (0, ((0, 0, 1), (1, 1, 1)), (0, 1))}))
 [[0, 1], [2]]
+
+>>> from lazytags.settings import Setting
+>>> from lazytags.tables import row_of
+>>> s = Setting(2, {"flip": (1, 0)}, None, True)
+>>> row_of(s, ("deed", "turn", ("join", ("deed", "flip", ("value", 0)), ("value", 0))))
+(0, 1)
+
+>>> from lazytags.settings import Setting
+>>> from lazytags.tables import check_records, check_table
+>>> s = Setting(1, None, {"any": (0, ((1,), (1,)), (0, 1))})
+>>> right = ((1,), ((0, 1), (1, 1)), {}, {"any": (0, 1)})
+>>> [check_records(s, right), check_table(s, ((1,), ((0, 1), (1, 2)), {}, {"any": (0, 1)}))]
+[None, ('joins', 1)]
+
+>>> from lazytags.settings import Setting
+>>> from lazytags.tables import cover
+>>> s = Setting(1, None, {"any": (0, ((1,), (1,)), (0, 1))})
+>>> cover(s, ((2,), ((0, 1, 2), (1, 1, 1), (2, 0, 2)), {}, {"any": (0, 5, 1)}))
+(0, None, 1)
+
+>>> from lazytags.settings import Setting
+>>> from lazytags.tables import check_wrong
+>>> s = Setting(1, None, {"any": (0, ((1,), (1,)), (0, 1))})
+>>> [check_wrong(s, ((0,), ((0,),), {}, {"any": (0,)}), "any", (("value", 0), ("join", 0, 0))), check_wrong(s, ((1,), ((0, 1), (1, 1)), {}, {"any": (0, 1)}), "any", (("empty",),))]
+[True, False]
+
+>>> from lazytags.partings import check_parting, in_context, parted
+>>> from lazytags.settings import Setting
+>>> s = Setting(2, {"flip": (1, 0)}, {"odd": (0, ((0, 1), (1, 0)), (0, 1))})
+>>> [in_context(s, ("odd", (1,), ("flip",), ()), (0, 0)), check_parting(s, (), (0,), ("odd", (), ("flip",), ())), parted(s, (), (1, 1))]
+[1, True, None]
+
+>>> from lazytags.settings import Setting
+>>> from lazytags.tags import tag_of, tag_words
+>>> s = Setting(2, {"flip": (1, 0)}, {"odd": (0, ((0, 1), (1, 0)), (0, 1))}, True)
+>>> [tag_words(s), tag_of(s, ("flip", "turn", "flip"))]
+[[(), ('flip',)], 0]
+
+>>> from lazytags.settings import Setting
+>>> from lazytags.tags import least_tags
+>>> s = Setting(2, {"flip": (1, 0)}, {"odd": (0, ((0, 1), (1, 0)), (0, 1))}, True)
+>>> least_tags(s)
+(({'flip': 1, 'turn': 0}, {'flip': 0, 'turn': 1}), ((0, 1, 2, 3), (0, 2, 1, 3)))
+
+>>> from lazytags.settings import Setting
+>>> from lazytags.tags import deeds_parted
+>>> s = Setting(2, {"flip": (1, 0)}, {"odd": (0, ((0, 1), (1, 0)), (0, 1))}, True)
+>>> [deeds_parted(s, ("flip",), ()), deeds_parted(s, ["turn"], [])]
+[(0,), None]
+
+>>> from lazytags.settings import Setting
+>>> from lazytags.records import least_records
+>>> from lazytags.tags import check_tags, cover_tags
+>>> s = Setting(2, {"flip": (1, 0)}, {"odd": (0, ((0, 1), (1, 0)), (0, 1))}, True)
+>>> tags = (({"flip": 1, "turn": 2}, {"flip": 2, "turn": 1}, {"flip": 1, "turn": 0}), ((0, 1, 2, 3), (0, 2, 1, 3), (0, 1, 2, 3)))
+>>> [check_tags(s, least_records(s), tags), cover_tags(s, least_records(s), tags)]
+[None, (0, 1, 0)]
+
+>>> from lazytags.settings import Setting
+>>> from lazytags.plans import run
+>>> s = Setting(2, {"flip": (1, 0)}, {"odd": (0, ((0, 1), (1, 0)), (0, 1))}, True)
+>>> run(s, (("flip", 0, 2), ("turn", 1, 3), ("flip", 0, 1)), (0, 0, 1))
+(0, 1, 1)
+
+>>> from lazytags.settings import Setting
+>>> from lazytags.plans import form_of
+>>> s = Setting(2, {"flip": (1, 0)}, {"odd": (0, ((0, 1), (1, 0)), (0, 1))}, True)
+>>> form_of(s, (("flip", 0, 2), ("turn", 1, 3), ("flip", 0, 1)), 3)
+((0, (0, 1)), (2, (0, 1)), (1, (1, 0)))
+
+>>> from lazytags.settings import Setting
+>>> from lazytags.plans import plans_parted, plans_told
+>>> s = Setting(2, {"flip": (1, 0)}, {"odd": (0, ((0, 1), (1, 0)), (0, 1))}, True)
+>>> one, two = [("flip", 0, 1)], [("flip", 1, 2)]
+>>> [plans_parted(s, one, two, 2), plans_told(s, one, two, 2), plans_told(s, one, [], 2)]
+[(0, 0), None, (0, 0)]
+
+>>> from lazytags.settings import Setting
+>>> from lazytags.plans import idle, swaps
+>>> s = Setting(2, {"flip": (1, 0)}, {"odd": (0, ((0, 1), (1, 0)), (0, 1))}, True)
+>>> plan = [("flip", 0, 1), ("turn", 1, 2), ("flip", 1, 2), ("turn", 0, 2)]
+>>> [idle(s, plan, 2), swaps(s, plan, 2)]
+[[1], [0, 1]]
+
+>>> from lazytags.settings import Setting
+>>> from lazytags.plans import plan_of, run
+>>> s = Setting(2, {"flip": (1, 0)}, {"odd": (0, ((0, 1), (1, 0)), (0, 1))}, True)
+>>> run(s, plan_of(s, ((1, (1, 0)), (0, (0, 1)))), (0, 1))
+(0, 0)
 '''
 
 

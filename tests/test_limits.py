@@ -6,10 +6,16 @@ import unittest
 
 from lazytags.errors import TooMany
 from lazytags.machines import answer, check_machine, least_machine, machines_parted, mapped, turned
+from lazytags.partings import check_parting, in_context, parted
+from lazytags.plans import form_of, idle, plan_of, plans_parted, plans_told, run, swaps
 from lazytags.records import least_records, least_rows, record_of, same_values
 from lazytags.settings import Setting
+from lazytags.tables import check_records, check_table, check_wrong, cover, row_of, worked
+from lazytags.tags import check_tags, cover_tags, deeds_parted, least_tags, tag_of, tag_words
 from tests.makers import cycle, random_machine
+from tests.reckoning import blown, blown_tags, random_expression, random_plan, random_recipe, random_table
 from tests.test_machines import ALSO_300, JUST_300
+from tests.test_tags import FIRST_OF_FOUR, MAPS_298
 
 SECONDS = 4
 # The maps of each of these dicts come to all maps of their size.
@@ -28,7 +34,7 @@ def counting(value, many, size):
     return (0, steps, tuple(range(many)))
 
 
-class TestTime(unittest.TestCase):
+class Timed(unittest.TestCase):
     def in_time(self, call, *arguments):
         before = time.perf_counter()
         try:
@@ -38,6 +44,8 @@ class TestTime(unittest.TestCase):
         self.assertLess(time.perf_counter() - before, SECONDS, call)
         return told
 
+
+class TestTime(Timed):
     def test_machines_at_the_limits(self):
         rng = random.Random(7)
         for states, size in [(6, 4), (30, 3), (30, 2), (30, 1)]:
@@ -96,6 +104,141 @@ class TestTime(unittest.TestCase):
         setting = Setting(1, {name: (0,) for name in "abcd"}, asks, True)
         self.assertEqual(len(self.in_time(least_records, setting)[1]), 300)
         self.assertEqual(self.in_time(record_of, setting, (0,) * 299), 299)
+
+
+def settings_at_the_limits(rng):
+    """Settings with very many records and views, with and without turn."""
+    for states, size in [(6, 4), (30, 3), (30, 2), (30, 1)]:
+        maps = ALL_MAPS.get(size, {name: (0,) for name in "abcd"})
+        for turning in [False, True]:
+            yield Setting(size, maps, {name: random_machine(rng, states, size, 2) for name in "abcd"}, turning)
+
+
+def settings_with_many_records(turning):
+    """Settings with 256, 216 and 300 records. The first has 256 tags."""
+    yield Setting(4, ALL_MAPS[4], {name: counting(value, 4, 4) for value, name in enumerate("abcd")}, turning)
+    yield Setting(3, ALL_MAPS[3], {name: counting(value, 6, 3) for value, name in enumerate("abc")}, turning)
+    asks = {"a": cycle(30), "b": cycle(20), "c": cycle(25), "d": cycle(12)}
+    yield Setting(1, {name: (0,) for name in "abcd"}, asks, turning)
+
+
+class TestTimeOfTablesAndTags(Timed):
+    def test_tables_and_partings_of_very_many_records(self):
+        rng = random.Random(61)
+        for setting in settings_at_the_limits(rng):
+            same = ((0,) * 300,) * 300
+            still = {deed: (0,) * 300 for deed in setting.deeds}
+            poor = ((299,) * setting.size, same, still, {ask: (1,) * 300 for ask in setting.asks})
+            for table in [random_table(rng, setting, 300), poor]:
+                self.assertIsNone(self.in_time(check_table, setting, table))
+                self.assertEqual(self.in_time(check_records, setting, table)[0], "wrong")
+                self.in_time(check_wrong, setting, table, "a", random_recipe(rng, setting, 500))
+                self.in_time(worked, setting, table, random_expression(rng, setting, 400))
+            for length in [60, 300]:
+                row = tuple(rng.randrange(setting.size) for _ in range(length))
+                self.assertIsNone(self.in_time(parted, setting, row, row))
+                self.in_time(parted, setting, row, row[:-1])
+                context = ("a", row[:60], setting.deeds[:1] * 40, row[:60])
+                self.in_time(in_context, setting, context, row)
+                self.in_time(check_parting, setting, row, row, context)
+            deeds = setting.deeds * 8
+            for call in [least_tags, tag_words, lambda setting: tag_of(setting, deeds[:40])]:
+                self.in_time(call, setting)
+            self.in_time(deeds_parted, setting, deeds[:40], deeds[1:41])
+            self.in_time(plans_told, setting, [], [], 60)
+
+    def test_expressions_of_400_parts_and_recipes_with_many_deeds(self):
+        rng = random.Random(62)
+        for setting in settings_at_the_limits(rng):
+            table = random_table(rng, setting, 300)
+            for _ in range(5):
+                expression = random_expression(rng, setting, 400)
+                self.in_time(row_of, setting, expression)
+                self.in_time(worked, setting, table, expression)
+            # Behind many deeds, rows are read after all maps and in both ways.
+            recipe = [("value", 0)]
+            while len(recipe) < 499:
+                recipe.append(("deed", setting.deeds[len(recipe) % len(setting.deeds)], len(recipe) - 1))
+                recipe.append(("join", len(recipe) - 1, len(recipe) - 2))
+            self.in_time(check_wrong, setting, table, "a", tuple(recipe))
+
+    def test_right_tables_and_tag_tables(self):
+        rng = random.Random(63)
+        for turning in [False, True]:
+            for setting in settings_with_many_records(turning):
+                least, tags = self.in_time(least_records, setting), self.in_time(least_tags, setting)
+                more = 300 - len(least[1])
+                table, _ = blown(rng, least, more // 2, more - more // 2)
+                self.assertEqual(len(table[1]), 300)
+                self.assertIsNone(self.in_time(check_records, setting, table))
+                stands = self.in_time(cover, setting, table)
+                more = 300 - len(tags[0])
+                large, _ = blown_tags(rng, tags, stands, more // 2, more - more // 2)
+                self.assertEqual(len(large[0]), 300)
+                self.assertIsNone(self.in_time(check_tags, setting, table, large))
+                self.assertEqual(len(self.in_time(cover_tags, setting, table, large)), 300)
+                wrong = (large[0], large[1][:-1] + ((0,) * 300,))
+                self.in_time(check_tags, setting, table, wrong)
+                deeds = setting.deeds * 8
+                self.in_time(tag_of, setting, deeds[:40])
+                self.in_time(deeds_parted, setting, deeds[:40], deeds[1:41])
+
+    def test_many_tags_in_a_chain(self):
+        # Each of 300 tags leads to the next one, so there are words of 299 deeds.
+        setting = Setting(1, {"stay": (0,)}, {"a": cycle(25), "b": cycle(12)})
+        table = least_records(setting)
+        tags = (tuple({"stay": min(tag + 1, 299)} for tag in range(300)), (tuple(range(300)),) * 300)
+        self.assertIsNone(self.in_time(check_tags, setting, table, tags))
+        self.assertEqual(self.in_time(cover_tags, setting, table, tags), (0,) * 300)
+        tags = (tags[0], tags[1][:299] + ((0,) * 300,))
+        self.assertEqual(self.in_time(check_tags, setting, table, tags), ("wrong", ("stay",) * 299, 1))
+
+    def test_many_tags(self):
+        setting = Setting(4, MAPS_298, {"first": FIRST_OF_FOUR}, True)
+        self.assertEqual(len(self.in_time(tag_words, setting)), 298)
+        table, tags = least_records(setting), self.in_time(least_tags, setting)
+        self.assertIsNone(self.in_time(check_tags, setting, table, tags))
+        self.assertEqual(self.in_time(cover_tags, setting, table, tags), tuple(range(298)))
+
+
+class TestTimeOfPlans(Timed):
+    def test_plans_of_40_steps(self):
+        rng = random.Random(64)
+        for setting in settings_at_the_limits(rng):
+            for plan in [random_plan(rng, setting.deeds, 60, 40) for _ in range(3)] + [[(setting.deeds[-1], 0, 60)] * 40]:
+                self.in_time(run, setting, plan, tuple(rng.randrange(setting.size) for _ in range(60)))
+                self.in_time(form_of, setting, plan, 60)
+                self.in_time(plans_parted, setting, plan, random_plan(rng, setting.deeds, 60, 40), 60)
+                self.in_time(plans_parted, setting, plan, [*plan], 60)
+                self.in_time(idle, setting, plan, 60)
+                self.in_time(swaps, setting, plan, 60)
+
+    def test_plans_told_of_40_records(self):
+        rng = random.Random(65)
+        # How often there is each value, modulo 2.
+        asks = {name: counting(value, 2, 4) for value, name in enumerate("abcd")}
+        setting = Setting(4, ALL_MAPS[4], asks)
+        self.assertEqual(len(least_rows(setting)), 16)
+        pairs = [(setting, sorted(setting.maps))]
+        asks = {"a": counting(1, 3, 3), "b": counting(2, 3, 3), "c": cycle(4, 3)}
+        pairs.append((Setting(3, {"a": (0, 2, 1), "b": (0, 1, 1)}, asks), ["a", "b"]))
+        self.assertEqual(len(least_rows(pairs[1][0])), 36)
+        for setting, deeds in pairs:
+            for _ in range(5):
+                plan, other = random_plan(rng, deeds, 60, 40), random_plan(rng, deeds, 60, 40)
+                self.in_time(plans_told, setting, plan, other, 60)
+                self.assertIsNone(self.in_time(plans_told, setting, plan, list(plan), 60))
+            # Many pairs of records are reached by these.
+            self.in_time(plans_told, setting, [(deeds[0], 0, 60)], [(deeds[1], 0, 59)], 60)
+
+    def test_plans_that_are_made(self):
+        # Words of up to 17 deeds at each place, and turns from far.
+        setting = Setting(4, {"a": (0, 0, 1, 2), "b": (1, 3, 0, 2)}, None, True)
+        form = tuple((59 - place, (3, 2, 1, 1)) for place in range(60))
+        plan = self.in_time(plan_of, setting, form)
+        self.assertEqual(self.in_time(form_of, setting, plan, 60), form)
+        self.assertEqual(self.in_time(run, setting, plan, (3,) * 60), (1,) * 60)
+        self.assertIsNone(self.in_time(plans_parted, setting, plan, plan, 60))
 
 
 if __name__ == "__main__":
