@@ -24,6 +24,14 @@ def need_plan(plan, length, deeds):
             raise InvalidPlan(place)
 
 
+def need_plans(setting, plans, length):
+    """Raises NotASetting, InvalidLength, then InvalidPlan for the first of these that is not a plan for the length."""
+    need_setting(setting)
+    need_length(length)
+    for plan in plans:
+        need_plan(plan, length, setting.deeds)
+
+
 def is_step(thing, length, deeds):
     """Whether thing is a step for a length with one of these deeds."""
     if not isinstance(thing, tuple) or len(thing) != 3:
@@ -54,9 +62,7 @@ def cells_after(setting, plan, length):
 
 def form_of(setting, plan, length):
     """The form of a plan."""
-    need_setting(setting)
-    need_length(length)
-    need_plan(plan, length, setting.deeds)
+    need_plans(setting, [plan], length)
     return form_after(setting, plan, length)
 
 
@@ -73,10 +79,7 @@ def is_constant(mapping):
 
 def plans_parted(setting, plan, other, length):
     """None if two plans do the same to each row of a length, otherwise the least row that tells them apart."""
-    need_setting(setting)
-    need_length(length)
-    need_plan(plan, length, setting.deeds)
-    need_plan(other, length, setting.deeds)
+    need_plans(setting, [plan, other], length)
     rows = []
     # One place that differs is enough, and it hangs on one or two values: the others are 0 in the least row.
     for cell, other_cell in zip(cells_after(setting, plan, length), cells_after(setting, other, length)):
@@ -101,24 +104,23 @@ def rows_parting(cell, other, length):
 
 def idle(setting, plan, length):
     """The list of the numbers of the steps each of which can be left out."""
-    need_setting(setting)
-    need_length(length)
-    need_plan(plan, length, setting.deeds)
+    need_plans(setting, [plan], length)
     steps = list(plan)
-    form = form_after(setting, steps, length)
-    without = [steps[:k] + steps[k + 1:] for k in range(len(steps))]
-    return [k for k, fewer in enumerate(without) if form_after(setting, fewer, length) == form]
+    return like_plans(setting, steps, [steps[:k] + steps[k + 1:] for k in range(len(steps))], length)
 
 
 def swaps(setting, plan, length):
     """The list of the numbers of the steps each of which can be exchanged with the next one."""
-    need_setting(setting)
-    need_length(length)
-    need_plan(plan, length, setting.deeds)
+    need_plans(setting, [plan], length)
     steps = list(plan)
-    form = form_after(setting, steps, length)
     swapped = [[*steps[:k], steps[k + 1], steps[k], *steps[k + 2:]] for k in range(len(steps) - 1)]
-    return [k for k, others in enumerate(swapped) if form_after(setting, others, length) == form]
+    return like_plans(setting, steps, swapped, length)
+
+
+def like_plans(setting, plan, others, length):
+    """The list of the numbers of those of the other plans that have the form of a plan."""
+    form = form_after(setting, plan, length)
+    return [k for k, other in enumerate(others) if form_after(setting, other, length) == form]
 
 
 def plans_told(setting, plan, other, length):

@@ -19,6 +19,20 @@ WRONG_THINGS = [
 ]
 
 
+def one_between(left, right):
+    """A machine that answers 1 for the rows with a one that has just so many values before and behind it, 0 otherwise."""
+    none = left + right + 2
+    steps = [(at + 1, at + 1) for at in range(left)] + [(none, left + 1)]
+    steps += [(at + 1, at + 1) for at in range(left + 1, left + right + 1)] + [(none, none)] * 2
+    return (0, tuple(steps), (0,) * (left + right + 1) + (1, 0))
+
+
+def shuffles(size):
+    """A machine that never forgets: its values shuffle six states in ways whose order matters."""
+    ways = [(1, 2, 0, 4, 5, 3), (3, 5, 4, 0, 2, 1), (3, 4, 5, 0, 1, 2), (0, 2, 1, 3, 5, 4)]
+    return (0, tuple(tuple(ways[value][state] for value in range(size)) for state in range(6)), (0, 1, 2, 3, 4, 5))
+
+
 def cycle(many, size=1):
     """A machine that counts all values, up to a number."""
     return (0, tuple(((state + 1) % many,) * size for state in range(many)), tuple(range(many)))

@@ -7,7 +7,8 @@ from lazytags.errors import InvalidExpression, InvalidRecipe, InvalidTable, NoSu
 from lazytags.records import least_records
 from lazytags.settings import Setting
 from lazytags.tables import check_records, check_table, check_wrong, cover, row_of, worked
-from tests.makers import LAST, NEST, ODD, WRONG_THINGS, PlainRecords, cycle, random_machine, random_setting, tailed_cycle
+from tests.makers import LAST, NEST, ODD, WRONG_THINGS, PlainRecords, one_between, cycle, random_machine
+from tests.makers import random_setting, shuffles, tailed_cycle
 from tests.reckoning import blown, expression_of, plain_cover, plain_record, plain_row, random_expression, random_recipe
 from tests.reckoning import random_table, reached_records, recipe_told, with_a_change
 
@@ -249,6 +250,41 @@ class TestWrong(unittest.TestCase):
                 moves = {deed: (0,) * many for deed in setting.deeds}
                 self.assert_wrong(setting, ((many - 1,) * 3, same, moves, {"a": (0,) * many, "b": (1,) * many}))
 
+    def test_wrong_only_far_within_a_row(self):
+        # Only the right number of values before and behind an expression show the answer that is wrong.
+        for left, right in [(0, 0), (0, 1), (1, 0), (1, 1), (3, 2), (2, 5), (0, 26), (26, 0), (13, 13), (7, 19)]:
+            ask = {"a": one_between(left, right)}
+            for maps, turning in [(None, False), (FLIP, False), (None, True), ({"zero": (0, 0)}, True)]:
+                setting = Setting(2, maps, ask, turning)
+                for many in [1, 2, 5]:
+                    line = (0,) * many
+                    moves = {deed: line for deed in setting.deeds}
+                    self.assert_wrong(setting, ((many - 1, 0), (line,) * many, moves, {"a": line}))
+                    self.assert_wrong(setting, ((0, many - 1), ((many - 1,) * many,) * many, moves, {"a": line}))
+                rng = random.Random(left * 30 + right)
+                for many in [3, 20, 60]:
+                    self.assert_wrong(setting, random_table(rng, setting, many))
+
+    def test_each_change_of_a_table_by_hand(self):
+        rng = random.Random(23)
+        for ask in [one_between(1, 1), one_between(2, 0), one_between(0, 2), shuffles(2)]:
+            for maps, turning in [(None, False), (FLIP, False), ({"zero": (0, 0)}, True)]:
+                setting = Setting(2, maps, {"a": ask}, turning)
+                ones, joins, moves, answers = least_records(setting)
+                many = len(joins)
+                for _ in range(60):
+                    one, other, to = [rng.randrange(many) for _ in range(3)]
+                    line = joins[one][:other] + (to,) + joins[one][other + 1:]
+                    table = (ones, joins[:one] + (line,) + joins[one + 1:], moves, answers)
+                    if to == joins[one][other]:
+                        self.assertIsNone(check_records(setting, table))
+                    else:
+                        self.assert_wrong(setting, table)
+                for name in moves:
+                    for at in range(many):
+                        line = moves[name][:at] + ((moves[name][at] + 1) % many,) + moves[name][at + 1:]
+                        self.assert_wrong(setting, (ones, joins, {**moves, name: line}, answers))
+
     def test_one_record_less_than_needed(self):
         # 301 records are needed. These 300 are right up to rows of 299 values, then they begin anew at one value.
         asks = {"a": tailed_cycle(1, 25), "b": cycle(12)}
@@ -315,6 +351,26 @@ class TestCheckWrong(unittest.TestCase):
                 self.assertIs(check_wrong(setting=setting, table=table, ask=ask, recipe=recipe), given != due)
         self.assertTrue(min(told.values()) > 5)
 
+    def test_the_order_of_values_and_deeds_matters(self):
+        # A table with one record gives one answer: it is wrong just if another one is due.
+        rng = random.Random(24)
+        maps = {"a": (1, 2, 0), "b": (1, 0, 2), "c": (0, 2, 2)}
+        setting = Setting(3, maps, {"s": shuffles(3), "t": (0, ((0, 1, 2),) * 3, (0, 1, 2))}, True)
+        moves = {deed: (0,) for deed in setting.deeds}
+        found = {}
+        for items in [3, 4, 5, 6, 7, 8, 9, 10, 11, 12] * 20 + [500] * 4:
+            recipe = random_recipe(rng, setting, items)
+            for ask in setting.asks:
+                table = ((0, 0, 0), ((0,),), moves, {"s": (7,), "t": (7,)})
+                due = recipe_told(setting, table, ask, recipe)[1]
+                found[(ask, due)] = True
+                if items < 20:
+                    self.assertEqual(due, setting.answer(ask, plain_row(setting, expression_of(recipe))))
+                for told in range(6):
+                    table = ((0, 0, 0), ((0,),), moves, {"s": (told,), "t": (told,)})
+                    self.assertIs(check_wrong(setting, table, ask, recipe), told != due)
+        self.assertEqual(len(found), 9)
+
     def test_right_tables_are_never_wrong(self):
         rng = random.Random(19)
         for _ in range(20):
@@ -348,6 +404,7 @@ class TestCheckWrong(unittest.TestCase):
             (("empty",), ("deed", "flip", "0")), (("empty",), ("deed", "flip", False)), (("empty",), ("deed", "flip")),
             (("empty",), ("odd", 0)), (("Empty",),), ((Setting(2),),), (("value", 0), None),
             (("value", 0), ("value", 10 ** 99)), (("deed", "flip", 0), ("empty",)), (("empty",), ["join", 0, 0]),
+            (("empty",), ("Deed", "flip", 0)), (("empty",), (None, "turn", 0)), (("empty",), ("value", "flip", 0)),
         ]
         for thing in wrong:
             with self.assertRaises(InvalidRecipe) as caught:
@@ -365,7 +422,8 @@ WRONG_EXPRESSIONS = [
     ("deed", "flip"), ("deed", "flop", ("empty",)), ("deed", None, ("empty",)), ("deed", ["flip"], ("empty",)), (NEST,),
     ("deed", "flip", ("value", 9)), ("deed", "flip", 0), ("deed", "flip", ("empty",), 0), ("deed", ("empty",), "flip"),
     ("Join", ("empty",), ("empty",)), (None, ("empty",), ("empty",)), (Setting(2),),
-    ("join", ("deed", "flip", ("x",)), ("empty",)),
+    ("join", ("deed", "flip", ("x",)), ("empty",)), ("Deed", "flip", ("empty",)), (None, "turn", ("empty",)),
+    ("value", "flip", ("empty",)), ("", "flip", ("empty",)),
 ]
 
 
