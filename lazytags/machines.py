@@ -52,6 +52,16 @@ def answer_on(machine, row):
     return answers[state_after(steps, start, row)]
 
 
+def answers_along(machine, row):
+    """The list of the answers of what surely is a machine on all beginnings of a row, the shortest one first."""
+    state, steps, answers = machine
+    told = [answers[state]]
+    for value in row:
+        state = steps[state][value]
+        told.append(answers[state])
+    return told
+
+
 def state_after(steps, state, row):
     """The state to which a row leads from a state."""
     for value in row:

@@ -3,6 +3,7 @@
 from lazytags.checks import is_integer, is_map
 from lazytags.errors import InvalidForm, InvalidLength, InvalidPlan, NotMade
 from lazytags.growing import grown, joined, map_words, no_map
+from lazytags.ranges import is_range
 from lazytags.settings import need_row, need_setting
 
 MOST_PLACES = 60
@@ -37,7 +38,7 @@ def is_step(thing, length, deeds):
     if not isinstance(thing, tuple) or len(thing) != 3:
         return False
     deed, start, stop = thing
-    return deed in deeds and is_integer(start, 0, length) and is_integer(stop, start, length)
+    return deed in deeds and is_range(start, stop, length)
 
 
 def run(setting, plan, row):

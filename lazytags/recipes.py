@@ -49,8 +49,8 @@ def need_recipe(setting, thing):
             raise InvalidRecipe(thing)
 
 
-def recipe_of(setting, expression):
-    """The recipe of an expression, with an item for each of its parts. Raises InvalidExpression."""
+def parts_of(setting, expression):
+    """The list of the parts of an expression, each before those that it is made of. Raises InvalidExpression."""
     size = setting.size
     deeds = setting.deeds
     parts = []
@@ -61,6 +61,12 @@ def recipe_of(setting, expression):
             raise InvalidExpression(expression)
         parts.append(part)
         waiting.extend(made_of(part))
+    return parts
+
+
+def recipe_of(setting, expression):
+    """The recipe of an expression, with an item for each of its parts. Raises InvalidExpression."""
+    parts = parts_of(setting, expression)
     # Each part stands before those that it is made of, and those of its first one come last: backwards, the parts
     # of each part are the last ones that were done and not yet used.
     recipe = []

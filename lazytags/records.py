@@ -80,6 +80,11 @@ def record_of(setting, row):
     need_setting(setting)
     need_row(setting, row)
     _, nexts = grown(setting)
+    return record_after(nexts, row)
+
+
+def record_after(nexts, row):
+    """The record of a row, given where the values lead from each record."""
     record = 0
     for value in row:
         record = nexts[record][value]

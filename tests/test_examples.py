@@ -139,12 +139,92 @@ raises InvalidMaps(name='flip')
 >>> s = Setting(2, {"flip": (1, 0)}, {"odd": (0, ((0, 1), (1, 0)), (0, 1))}, True)
 >>> run(s, plan_of(s, ((1, (1, 0)), (0, (0, 1)))), (0, 1))
 (0, 0)
+
+>>> from lazytags.settings import Setting
+>>> from lazytags.trees import planted, split
+>>> s = Setting(2, {"flip": (1, 0)}, {"odd": (0, ((0, 1), (1, 0)), (0, 1))}, True)
+>>> split(s, planted(s, (0, 0, 1)), 2)
+(('join', ('value', 0), ('value', 0)), ('value', 1))
+
+>>> from lazytags.settings import Setting
+>>> from lazytags.trees import late, planted
+>>> s = Setting(2, {"flip": (1, 0)}, {"odd": (0, ((0, 1), (1, 0)), (0, 1))}, True)
+>>> late(s, planted(s, (0, 0, 1)), "turn", 1, 3)
+('join', ('value', 0), ('deed', 'turn', ('join', ('value', 0), ('value', 1))))
+
+>>> from lazytags.settings import Setting
+>>> from lazytags.trees import late, planted
+>>> s = Setting(2, {"flip": (1, 0)}, {"odd": (0, ((0, 1), (1, 0)), (0, 1))}, True)
+>>> late(s, planted(s, (0, 0, 1)), "flip", 1, 2)
+('join', ('join', ('value', 0), ('deed', 'flip', ('value', 0))), ('value', 1))
+
+>>> from lazytags.settings import Setting
+>>> from lazytags.trees import neat
+>>> s = Setting(2, {"flip": (1, 0)}, {"odd": (0, ((0, 1), (1, 0)), (0, 1))}, True)
+>>> neat(s, ("deed", "flip", ("deed", "turn", ("deed", "flip", ("value", 1)))))
+('value', 1)
+
+>>> from lazytags.settings import Setting
+>>> from lazytags.trees import pieces
+>>> s = Setting(2, {"flip": (1, 0)}, {"odd": (0, ((0, 1), (1, 0)), (0, 1))}, True)
+>>> pieces(7, 2, 6)
+[(2, 3), (3, 5), (5, 6)]
+
+>>> from lazytags.settings import Setting
+>>> from lazytags.needs import enough, enough_deeds, unfree
+>>> s = Setting(2, {"flip": (1, 0)}, {"odd": (0, ((0, 1), (1, 0)), (0, 1))}, True)
+>>> [enough(s), enough_deeds(s), unfree(s, "turn")]
+[[('odd',)], [('flip',)], None]
+
+>>> from lazytags.settings import Setting
+>>> from lazytags.needs import enough, untold
+>>> odd, even = (0, ((0, 1), (1, 0)), (0, 1)), (0, ((0, 1), (1, 0)), (1, 0))
+>>> t = Setting(2, asks={"odd": odd, "even": even})
+>>> [enough(t), untold(t, "odd")]
+[[('even',), ('odd',)], None]
+
+>>> from lazytags.settings import Setting
+>>> from lazytags.kept import Kept
+>>> s = Setting(2, {"flip": (1, 0)}, {"odd": (0, ((0, 1), (1, 0)), (0, 1))}, True)
+>>> kept = Kept(s, (1, 0, 0))
+>>> kept.do("flip", 1, 3)
+>>> kept.put(0, (1,))
+>>> [kept.row(), kept.ask("odd", 0, 4), kept.first("odd", 1, 1), kept.how_many("odd", 1), kept.how_many("odd", 0)]
+[(1, 1, 1, 1), 0, 2, 6, 9]
+
+>>> from lazytags.settings import Setting
+>>> from lazytags.kept import Kept
+>>> s = Setting(2, {"flip": (1, 0)}, {"odd": (0, ((0, 1), (1, 0)), (0, 1))}, True)
+>>> kept = Kept(s, (1, 0, 0))
+>>> kept.do("flip", 1, 3)
+>>> kept.undo()
+>>> [kept.cut(0, 2), kept.row(), len(kept), kept.record(0, 1)]
+[(1, 0), (0,), 1, 1]
+
+>>> from lazytags.settings import Setting
+>>> from lazytags.writing import written
+>>> s = Setting(2, {"flip": (1, 0)}, {"odd": (0, ((0, 1), (1, 0)), (0, 1))}, True)
+>>> written(s)
+'size 2\nturning\nmap flip 1 0\nask odd 0 0,1:0 1,0:1'
+
+>>> from lazytags.settings import Setting
+>>> from lazytags.writing import read, written
+>>> s = Setting(2, {"flip": (1, 0)}, {"odd": (0, ((0, 1), (1, 0)), (0, 1))}, True)
+>>> read(written(s)) == s
+True
+
+>>> from lazytags.settings import Setting
+>>> from lazytags.writing import read
+>>> read("size 2\nmap flip 1 2")
+raises Unreadable(line=2)
 '''
 
 
 class TestExamples(unittest.TestCase):
     def test_each_example(self):
-        for text in EXAMPLES.strip().split("\n\n"):
+        texts = EXAMPLES.strip().split("\n\n")
+        self.assertEqual(len(texts), 36)
+        for text in texts:
             with self.subTest(text=text):
                 given, expected = run_example(text)
                 self.assertEqual(given, expected)

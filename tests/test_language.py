@@ -194,6 +194,17 @@ class TestWords(unittest.TestCase):
                 for name in [name for name, sign in written if sign == "property" and name in assigned]:
                     self.assertIn((name, f"{name}.setter"), written, (path, each.name))
 
+    def test_no_name_is_a_method_and_an_attribute(self):
+        stored = [
+            node.attr for path in FILES for node in nodes_of(path, ast.Attribute) if not isinstance(node.ctx, ast.Load)
+        ]
+        methods = [
+            node.name for path in FILES for each in nodes_of(path, ast.ClassDef) for node in each.body
+            if isinstance(node, ast.FunctionDef) and not node.decorator_list
+        ]
+        self.assertIn("copy", methods)
+        self.assertEqual([name for name in methods if name in stored], [])
+
     def test_no_sort_beside_an_order(self):
         for path in FILES:
             self.assertNotIn(".sort(", path.read_text(), path)

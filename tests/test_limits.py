@@ -5,17 +5,22 @@ import time
 import unittest
 
 from lazytags.errors import TooMany
+from lazytags.kept import Kept
 from lazytags.machines import answer, check_machine, least_machine, machines_parted, mapped, turned
+from lazytags.needs import check_unfree, check_untold, enough, enough_deeds, unfree, untold
 from lazytags.partings import check_parting, in_context, parted
 from lazytags.plans import form_of, idle, plan_of, plans_parted, plans_told, run, swaps
 from lazytags.records import least_records, least_rows, record_of, same_values
 from lazytags.settings import Setting
 from lazytags.tables import check_records, check_table, check_wrong, cover, row_of, worked
 from lazytags.tags import check_tags, cover_tags, deeds_parted, least_tags, tag_of, tag_words
-from tests.makers import cycle, random_machine
+from lazytags.trees import late, neat, pieces, planted, split
+from lazytags.writing import read, written
+from tests.makers import cycle, random_machine, tailed_cycle
 from tests.reckoning import blown, blown_tags, random_expression, random_plan, random_recipe, random_table
 from tests.test_machines import ALSO_300, JUST_300
 from tests.test_tags import FIRST_OF_FOUR, MAPS_298
+from tests.test_trees import bushy, chain
 
 SECONDS = 4
 # The maps of each of these dicts come to all maps of their size.
@@ -239,6 +244,102 @@ class TestTimeOfPlans(Timed):
         self.assertEqual(self.in_time(form_of, setting, plan, 60), form)
         self.assertEqual(self.in_time(run, setting, plan, (3,) * 60), (1,) * 60)
         self.assertIsNone(self.in_time(plans_parted, setting, plan, plan, 60))
+
+
+class TestTimeOfTrees(Timed):
+    def test_trees_of_400_parts_and_100_within_one_another(self):
+        rng = random.Random(66)
+        for setting in [*settings_at_the_limits(rng), *settings_with_many_records(True)]:
+            for make in [bushy, chain]:
+                tree = make(setting, rng)
+                many = len(row_of(setting, tree))
+                for place in range(0, many + 1, 7):
+                    self.in_time(split, setting, tree, place)
+                    for deed in setting.deeds:
+                        self.in_time(late, setting, tree, deed, place // 2, many - place // 2)
+                self.in_time(neat, setting, tree)
+            for row in [(0,) * 60, (0,) * 200]:
+                self.in_time(split, setting, self.in_time(planted, setting, row), 33)
+                self.in_time(neat, setting, planted(setting, row))
+
+    def test_deeds_upon_each_other(self):
+        for setting in settings_with_many_records(True):
+            tree = ("value", 0)
+            for k in range(300):
+                tree = ("deed", setting.deeds[k % len(setting.deeds)], tree)
+            self.in_time(neat, setting, tree)
+            self.in_time(split, setting, tree, 1)
+            self.in_time(late, setting, tree, "turn", 0, 1)
+        setting = Setting(4, MAPS_298, {"first": FIRST_OF_FOUR}, True)
+        for make in [bushy, chain]:
+            self.in_time(neat, setting, make(setting, random.Random(67)))
+
+    def test_pieces_of_200(self):
+        before = time.perf_counter()
+        for start in range(201):
+            for stop in range(start, 201):
+                pieces(200, start, stop)
+        self.assertLess(time.perf_counter() - before, 20)
+
+
+class TestTimeOfNeeds(Timed):
+    def test_settings_at_the_limits(self):
+        rng = random.Random(68)
+        # Records that are told apart only by contexts of many values.
+        last = (0, tuple(((k + 1) % 30,) for k in range(30)), (0,) * 29 + (1,))
+        end = (0, tuple((min(k + 1, 29),) for k in range(30)), (0,) * 29 + (1,))
+        maps = {name: (0,) for name in "abcd"}
+        far = Setting(1, maps, {"a": last, "b": cycle(20), "c": cycle(25), "d": cycle(12)}, True)
+        self.assertEqual(len(least_rows(far)), 300)
+        tailed = Setting(1, maps, {"a": tailed_cycle(1, 29), "b": end, "c": tailed_cycle(21, 9)}, True)
+        self.assertEqual(len(least_rows(tailed)), 290)
+        settings = [*settings_at_the_limits(rng), far, tailed]
+        for setting in [*settings, *settings_with_many_records(False), *settings_with_many_records(True)]:
+            self.in_time(enough, setting)
+            self.in_time(enough_deeds, setting)
+            rows = tuple(tuple(rng.randrange(setting.size) for _ in range(300)) for _ in range(2))
+            for ask in setting.asks:
+                self.in_time(untold, setting, ask)
+                self.in_time(check_untold, setting, ask, rows)
+            for deed in setting.deeds:
+                self.in_time(unfree, setting, deed)
+                self.in_time(check_unfree, setting, deed, rows)
+
+
+class TestTimeOfKeptRows(Timed):
+    def test_200_values_and_300_steps(self):
+        rng = random.Random(69)
+        for setting in [*settings_at_the_limits(rng), *settings_with_many_records(True)]:
+            kept = Kept(setting, tuple(rng.randrange(setting.size) for _ in range(200)))
+            before = time.perf_counter()
+            for _ in range(100):
+                start = rng.randrange(len(kept) + 1)
+                kept.do(rng.choice(setting.deeds), start, rng.randint(start, len(kept)))
+                start = rng.randrange(len(kept) + 1)
+                part = kept.cut(start, min(len(kept), start + 60))
+                kept.put(rng.randint(0, len(kept)), part)
+                kept.ask("a", 0, len(kept))
+                self.assertEqual(len(kept.copy()), 200)
+            self.assertLess(time.perf_counter() - before, SECONDS)
+            for wanted in [0, 1]:
+                self.in_time(kept.how_many, "a", wanted)
+                self.in_time(kept.first, "b", wanted, 0)
+            for start in range(3):
+                self.in_time(kept.record, start, 200)
+            for _ in range(300):
+                kept.undo()
+            self.assertEqual(len(kept), 200)
+
+
+class TestTimeOfWriting(Timed):
+    def test_20_lines_of_300_characters(self):
+        rng = random.Random(70)
+        for setting in [*settings_at_the_limits(rng), *settings_with_many_records(True)]:
+            text = self.in_time(written, setting)
+            self.assertEqual(self.in_time(read, text), setting)
+        line = "ask {} 0 " + " ".join(["11,11:10"] * 32)
+        text = "\n".join(["size 2"] + [line.format(letter) for letter in "abcdefghijklmnopqrs"])
+        self.assertEqual(self.in_time(written, self.in_time(read, text)), text)
 
 
 if __name__ == "__main__":

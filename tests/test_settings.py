@@ -297,6 +297,8 @@ class TestWithout(unittest.TestCase):
         self.assertTrue(smaller == Setting(2, {"zero": (0, 0)}, {"odd": ODD, "flip": LAST}, True))
         self.assertTrue(smaller.without_deed(name="turn") == Setting(2, {"zero": (0, 0)}, {"odd": ODD, "flip": LAST}))
         self.assertTrue(full().without_deed("turn") == Setting(2, full().maps, full().asks))
+        # Where rows are not turned round, they are not so without another deed either.
+        self.assertEqual(full().without_deed("turn").without_deed("flip"), Setting(2, {"zero": (0, 0)}, full().asks))
 
     def test_errors(self):
         for name in ["zero", "turn", "", None, True, 0, ("odd",), ["odd"], {}, Setting(2)]:
